@@ -418,7 +418,7 @@ func TestPartsShareNothing_R2(t *testing.T) {
 }
 
 // A text of a megabyte, in many parts and with a long set, is done in a breath.
-func TestLongTexts(t *testing.T) {
+func TestLongTexts_Limits(t *testing.T) {
 	n := 1 << 20
 	long := marks.Of(strings.Repeat(":", n), false)
 	if got := len(marks.Part(long, ':')); got != n+1 {
