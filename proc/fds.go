@@ -39,7 +39,7 @@ func (p *Proc) Dup(fd, from int) api.Errno {
 		return e
 	}
 	id, e := p.find(from)
-	if e != api.OK {
+	if e != api.OK || fd == from {
 		return e
 	}
 	return p.Put(fd, id)

@@ -58,14 +58,14 @@ func TestGoesBack_P9_5(t *testing.T) {
 	}
 }
 
-// What changes a second time behind a mark is noted already; what does not change is not noted.
+// What changes a second time behind a mark is noted already; Dup of an fd onto itself is not noted.
 func TestNotes_P9_5(t *testing.T) {
 	w := roomy(t)
 	a, b := w.text("aaa"), w.text("bbb")
 	w.good(w.Put(0, a), w.Close(0), w.Put(0, a), w.Chdir("d"), w.Chdir("/"), w.SetMask(7))
 	w.notes(0)
 	w.marks(1)
-	w.good(w.Put(0, a), w.Dup(0, 0), w.Close(1), w.Chdir("/"), w.Chdir("."), w.SetMask(7))
+	w.good(w.Dup(0, 0))
 	w.notes(0)
 	w.good(w.Put(0, b))
 	w.notes(1)
@@ -81,7 +81,7 @@ func TestNotes_P9_5(t *testing.T) {
 	w.notes(4)
 	w.marks(2)
 	w.notes(4)
-	w.good(w.Close(0), w.Open(0, "/f", api.In), w.Close(5), w.SetMask(7))
+	w.good(w.Close(0), w.Open(0, "/f", api.In))
 	w.notes(5)
 	w.good(w.Put(5, a), w.SetMask(8), w.Chdir("/"))
 	w.notes(8)
@@ -103,6 +103,85 @@ func TestNotes_P9_5(t *testing.T) {
 	w.good(w.Undo())
 	w.opens(0, a)
 	w.stands(root, 7)
+}
+
+// sets are calls that give a part what it has: in the world of setWorld each of another part.
+func (w *world) sets() []func() api.Errno {
+	id, _ := w.Handle(0)
+	return []func() api.Errno{
+		func() api.Errno { return w.Put(0, id) },
+		func() api.Errno { return w.Dup(1, 0) },
+		func() api.Errno { return w.Close(5) },
+		func() api.Errno { return w.Close(15) },
+		func() api.Errno { return w.Chdir(".") },
+		func() api.Errno { return w.SetMask(7) },
+	}
+}
+
+// setWorld has room for so many notes; its fds 0 and 1 have one handle.
+func setWorld(t *testing.T, most int) *world {
+	w := newWorld(t, most, 100)
+	id := w.text("abc")
+	w.good(w.Put(0, id), w.Put(1, id), w.table.Unref(id), w.Chdir("d"), w.SetMask(7))
+	w.notes(0)
+	return w
+}
+
+// What is set to what it has changes, too: it is noted the first time behind each mark.
+func TestSetToTheSame_P9_5(t *testing.T) {
+	w := setWorld(t, 100)
+	first := w.everything()
+	for n := range 3 {
+		w.marks(n + 1)
+		for i, set := range w.sets() {
+			w.good(set())
+			w.notes(n*6 + i + 1)
+			w.good(set())
+			w.notes(n*6 + i + 1)
+		}
+		w.good(w.Chdir("/d"), w.Dup(0, 1), w.Put(1, 1), w.Dup(0, 0), w.Dup(1, 1))
+		w.notes(n*6 + 6)
+		w.opens(0, 1, 1, 1)
+		w.stands(dir, 7)
+		// Of each mark that keeps them there is one more.
+		w.handles(1, 2*(n+2))
+		w.holds(dir, n+2)
+	}
+	for n := 2; n >= 0; n-- {
+		w.good(w.Undo())
+		w.notes(n * 6)
+		w.handles(1, 2*(n+1))
+		w.holds(dir, n+1)
+	}
+	if is := w.everything(); is != first {
+		t.Errorf("it was\n%s\nit is\n%s", first, is)
+	}
+}
+
+// Without an open mark nothing is noted, so it may be; behind one it may not be, where there are most notes.
+func TestSetToTheSameWithoutRoom_P9_5(t *testing.T) {
+	for most := range 6 {
+		w := setWorld(t, most)
+		w.unchanged("without a mark", func() {
+			for _, set := range w.sets() {
+				w.good(set())
+			}
+		})
+		w.marks(1)
+		for _, set := range w.sets()[:most] {
+			w.good(set())
+		}
+		w.unchanged("there are most notes", func() {
+			for i, set := range w.sets()[most:] {
+				w.wants("set"+told(most+i), set(), api.ErrWrite)
+			}
+			w.good(w.Dup(0, 0), w.Dup(1, 1))
+		})
+		w.good(w.Undo())
+		w.handles(1, 2)
+		w.holds(dir, 1)
+		w.stands(dir, 7)
+	}
 }
 
 // Sixteen fds, the directory and the mask: no mark has more notes than that.
@@ -135,7 +214,7 @@ func TestMostNotes_P9_5(t *testing.T) {
 	w.handles(id, 1)
 }
 
-// Where no note may be nothing changes, but what does not change is done.
+// Where no note may be nothing changes, but what is noted already is done.
 func TestErrWrite_P9_5(t *testing.T) {
 	w := newWorld(t, 1, 100)
 	a, b := w.text("aaa"), w.text("bbb")
@@ -161,8 +240,7 @@ func TestErrWrite_P9_5(t *testing.T) {
 		w.wants("SetMask", w.SetMask(512), api.ErrArg)
 		w.wants("Open", w.Open(0, "none", api.In), api.ErrNone)
 		w.wants("Open", w.Open(0, "e", api.Out), api.ErrDir)
-		// These change nothing.
-		w.good(w.Put(0, a), w.Dup(1, 1), w.Close(5), w.Chdir("."), w.SetMask(1))
+		w.good(w.Dup(1, 1), w.SetMask(1))
 	})
 	w.good(w.SetMask(2), w.SetMask(3))
 	w.stands(dir, 3)

@@ -71,10 +71,10 @@ func (s *second) undo() api.Errno {
 	return api.OK
 }
 
-// change is whether a part may have another value: it is noted, if that must be.
+// change is whether a part may be set: what it had is noted, if that must be, whatever it gets.
 func (s *second) change(part, value int) api.Errno {
 	was := s.now[part]
-	if last := len(s.waits) - 1; last >= 0 && was != value {
+	if last := len(s.waits) - 1; last >= 0 {
 		noted := s.waits[last].noted
 		if _, is := noted[part]; !is && s.notes() == s.most {
 			return api.ErrWrite
@@ -116,6 +116,9 @@ func (s *second) id(fd int) int {
 func (s *second) dup(fd, from int) api.Errno {
 	if fd < 0 || fd > 15 || s.id(from) == 0 {
 		return api.ErrFd
+	}
+	if fd == from {
+		return api.OK
 	}
 	return s.put(fd, s.now[from])
 }

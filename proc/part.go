@@ -8,14 +8,9 @@ type part struct {
 	noted int // how many marks were open when it was noted last what this goes back to
 }
 
-// change gives a part a value, which comes with its ref or hold; free gives up one of a value.
+// change gives a part a value, which comes with its ref or hold; free gives up one of a value. To be given what it has is a change like any other: it is set, so it is noted.
 func (p *Proc) change(x *part, value int, free func(value int)) api.Errno {
 	was, marks := *x, p.log.Marks()
-	if value == was.value {
-		// It does not change, and has the ref or hold that it needs.
-		free(value)
-		return api.OK
-	}
 	if was.noted == marks {
 		x.value = value
 		free(was.value)
